@@ -1,0 +1,1 @@
+"""Lastheap: a language whose heap outlives power cuts."""
