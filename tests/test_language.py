@@ -34,7 +34,7 @@ ALLOWED_NODES = (
     ast.Expr, ast.Constant, ast.Name, ast.Attribute, ast.Subscript, ast.Slice, ast.Call, ast.keyword,
     ast.BinOp, ast.UnaryOp, ast.BoolOp, ast.Compare, ast.IfExp, ast.List, ast.Tuple, ast.Dict, ast.ListComp,
     ast.DictComp, ast.comprehension, ast.JoinedStr, ast.FormattedValue, ast.operator, ast.unaryop, ast.boolop,
-    ast.cmpop, ast.expr_context,
+    ast.cmpop, ast.expr_context, ast.Try, ast.ExceptHandler,
 )
 INTERFACE = {
     "errors": (
@@ -44,6 +44,10 @@ INTERFACE = {
     "reader": ("Program", "read_program"),
     "printer": ("program_text",),
     "judging": ("Fault", "judge"),
+    "heaps": ("places", "empty_heap"),
+    "running": ("Block", "Sync", "Out", "Stop", "Run", "plain_run", "heaps"),
+    "lines": ("Layout", "packed", "spread", "Store", "Flush", "Fence"),
+    "ring": ("log_pairs", "blank"),
 }
 
 

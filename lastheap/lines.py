@@ -1,0 +1,107 @@
+"""Where places stand in the lines of a memory, and the commands for it."""
+
+from lastheap.checks import is_from, is_number
+from lastheap.errors import BadCount, Misfit
+from lastheap.sites import sites_of
+
+NARROWEST = 4
+WIDEST = 12
+
+
+class Layout:
+    """The number of words of each line, and for each heap line its places in order."""
+
+    def __init__(self, width, lines):
+        check_width(width)
+        for index, line in enumerate(lines):
+            if not 1 <= len(line) <= width:
+                raise BadCount("line", index)
+        check_places([place for line in lines for place in line])
+        self.width = width
+        self.lines = tuple([tuple(line) for line in lines])
+
+    def __eq__(self, other):
+        return isinstance(other, Layout) and self.width == other.width and self.lines == other.lines
+
+
+class Store:
+    """Puts a number into a word of a line."""
+
+    def __init__(self, line, word, number):
+        self.line = line
+        self.word = word
+        self.number = number
+
+    def __eq__(self, other):
+        return (
+            isinstance(other, Store)
+            and self.line == other.line
+            and self.word == other.word
+            and self.number == other.number
+        )
+
+
+class Flush:
+    """Makes the stores of a line so far last when the next fence is done."""
+
+    def __init__(self, line):
+        self.line = line
+
+    def __eq__(self, other):
+        return isinstance(other, Flush) and self.line == other.line
+
+
+class Fence:
+    """Waits for the flushes before it."""
+
+    def __init__(self):
+        pass
+
+    def __eq__(self, other):
+        return isinstance(other, Fence)
+
+
+def check_width(width):
+    if not is_from(width, NARROWEST, WIDEST) or width % 2 == 1:
+        raise BadCount("width", width)
+
+
+def check_places(places):
+    """Raise Misfit unless these are the numbers from 0 on, each once, in any order."""
+    seen = {}
+    for place in places:
+        if not is_number(place) or place < 0 or place in seen:
+            raise Misfit(place)
+        seen[place] = True
+    for place in range(len(seen)):
+        if place not in seen:
+            raise Misfit(place)
+
+
+def packed(program, width):
+    """The layout in which each line is filled with the next places."""
+    sites = sites_of(program)
+    check_width(width)
+    return Layout(width, lines_of(sites, width, [0]))
+
+
+def spread(program, width):
+    """The layout in which also each variable, array and record begins a line."""
+    sites = sites_of(program)
+    check_width(width)
+    return Layout(width, lines_of(sites, width, sites.heads))
+
+
+def lines_of(sites, width, heads):
+    """All places in lines; each of these heads begins one."""
+    lines = []
+    for place in range(len(sites.kinds)):
+        if place in heads or len(lines[-1]) == width:
+            lines.append([])
+        lines[-1].append(place)
+    return lines
+
+
+def homes_of(layout):
+    """For each place the line and the word where it stands."""
+    return {place: (line, word) for line, places in enumerate(layout.lines) for word, place in enumerate(places)}
