@@ -4,6 +4,11 @@ from lastheap.checks import is_from
 from lastheap.errors import BadCount
 
 MOST_SLOTS = 9
+# A head is a log line's number times this, and the number of the run's first log line.
+RUNS = 2 ** 62
+# No log line has this number or a greater one.
+MOST_LINES = 2 ** 60
+NO_PAIR = (-1, 0)
 
 
 def check_slots(slots):
@@ -27,3 +32,31 @@ def blank(layout, slots):
     """Contents with 0 in all words."""
     check_slots(slots)
     return ((0,) * layout.width,) * (len(layout.lines) + slots)
+
+
+def complete_head(number, first):
+    """The head of a complete log line of the run with this first log line."""
+    return number * RUNS + first + 1
+
+
+def line_words(head, last, pairs, width):
+    """The words of a complete log line; `last` tells whether it is the last one of its block."""
+    words = [head, int(last)]
+    for place, new in pairs + [NO_PAIR] * (pairs_in_line(width) - len(pairs)):
+        words.extend([place, new])
+    return words
+
+
+def read_head(head, slot, slots):
+    """What a slot's head tells: (number, first, whether complete), or None if it does not count."""
+    if head == 0:
+        return None
+    number, first = divmod(abs(head) - 1, RUNS)
+    if number % slots != slot or first > number or number >= MOST_LINES:
+        return None
+    return (number, first, head > 0)
+
+
+def read_pairs(words):
+    """The pairs (place, new) of a log line, also the empty ones."""
+    return [(words[index], words[index + 1]) for index in range(2, len(words), 2)]

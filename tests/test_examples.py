@@ -4,11 +4,16 @@ import unittest
 
 from lastheap.errors import Malformed
 from lastheap.heaps import places
+from lastheap.images import contents_of, count_images
 from lastheap.judging import judge
+from lastheap.lines import Fence, Flush, Layout, Store
+from lastheap.prefixes import count_by_prefix, staircase
 from lastheap.printer import program_text
 from lastheap.reader import read_program
-from lastheap.ring import log_pairs
-from lastheap.running import heaps, plain_run
+from lastheap.recovery import recover
+from lastheap.ring import blank, log_pairs
+from lastheap.running import Block, Run, Sync, heaps, plain_run
+from lastheap.runtime import translate
 
 
 class TextsTest(unittest.TestCase):
@@ -53,6 +58,33 @@ class RunsTest(unittest.TestCase):
 
     def test_log_pairs(self):
         self.assertEqual(log_pairs([(0, 0, 5), (1, 0, 6)], 4), [[(0, 5)], [(1, 6)]])
+
+
+class MemoryTest(unittest.TestCase):
+    LAYOUT = Layout(4, [[0]])
+
+    def translated(self, *events):
+        return translate(Run((0,), events, None), self.LAYOUT, blank(self.LAYOUT, 2), 2)
+
+    def test_commands(self):
+        trace = self.translated(Block([(0, 0, 5)]))
+        expected = (Store(1, 0, -1), Store(1, 1, 1), Store(1, 2, 0), Store(1, 3, 5), Store(1, 0, 1))
+        self.assertEqual(trace.commands, expected)
+
+    def test_sync(self):
+        trace = self.translated(Block([(0, 0, 5)]), Sync())
+        self.assertEqual(trace.commands[5:], (Flush(1), Fence(), Store(0, 0, 5)))
+        self.assertEqual((trace.made, trace.passed, trace.reasons), ((5,), (8,), (("event", 1),)))
+        self.assertEqual(
+            staircase(trace), [(0, 0), (0, 0), (0, 0), (0, 0), (0, 0), (0, 1), (0, 1), (1, 1), (1, 1)]
+        )
+
+    def test_images(self):
+        trace = self.translated(Block([(0, 0, 5)]))
+        first = recover(contents_of(trace, (0, 4, 0)), self.LAYOUT, 2)
+        last = recover(contents_of(trace, (0, 5, 0)), self.LAYOUT, 2)
+        found = (first.heap, first.following, last.heap, last.applied, count_images(trace), count_by_prefix(trace))
+        self.assertEqual(found, ((0,), 1, (5,), 1, 6, [5, 1]))
 
 
 if __name__ == "__main__":

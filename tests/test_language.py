@@ -48,6 +48,10 @@ INTERFACE = {
     "running": ("Block", "Sync", "Out", "Stop", "Run", "plain_run", "heaps"),
     "lines": ("Layout", "packed", "spread", "Store", "Flush", "Fence"),
     "ring": ("log_pairs", "blank"),
+    "recovery": ("Recovered", "recover"),
+    "runtime": ("Trace", "translate"),
+    "images": ("contents_of", "cut_times", "count_images", "image_at", "place_of"),
+    "prefixes": ("staircase", "prefix_of", "count_by_prefix", "image_with"),
 }
 
 
