@@ -54,9 +54,6 @@ class Flush:
 class Fence:
     """Waits for the flushes before it."""
 
-    def __init__(self):
-        pass
-
     def __eq__(self, other):
         return isinstance(other, Fence)
 
@@ -80,15 +77,12 @@ def check_places(places):
 
 def packed(program, width):
     """The layout in which each line is filled with the next places."""
-    sites = sites_of(program)
-    check_width(width)
-    return Layout(width, lines_of(sites, width, [0]))
+    return Layout(width, lines_of(sites_of(program), width, [0]))
 
 
 def spread(program, width):
     """The layout in which also each variable, array and record begins a line."""
     sites = sites_of(program)
-    check_width(width)
     return Layout(width, lines_of(sites, width, sites.heads))
 
 

@@ -30,7 +30,7 @@ class Frame:
         self.local = local
         # The names and tables of the references among those that can be used now.
         self.held = ()
-        # For each `while`, by its index, the number of rounds that were begun.
+        # For each `while`, by the index of its end, the number of rounds that were begun.
         self.rounds = {}
 
 
@@ -40,7 +40,8 @@ class Machine:
     def __init__(self, program, sites, heap, arguments):
         self.sites = sites
         self.heap = list(heap)
-        self.procedures = {}
+        # By the names of procedures, `main` too: the names of their parameters, and their orders.
+        self.parameters = {}
         self.orders = {}
         maker = OrderMaker(program, sites)
         for declaration in program.declarations:
@@ -57,13 +58,13 @@ class Machine:
 
     def add_procedure(self, maker, procedure):
         name = procedure.name.text
-        self.procedures[name] = [parameter.name.text for parameter in procedure.parameters]
+        self.parameters[name] = [parameter.name.text for parameter in procedure.parameters]
         self.orders[name] = maker.orders_of(procedure)
 
     def enter(self, name, given):
         """Begin a procedure."""
         local = {}
-        for parameter, word in zip(self.procedures[name], given):
+        for parameter, word in zip(self.parameters[name], given):
             local[parameter] = word
         self.frames.append(Frame(self.orders[name], local))
 

@@ -88,9 +88,7 @@ def image_with(trace, prefix):
     if not is_from(prefix, 0, len(needs) - 1):
         raise NoPlace(prefix)
     for room in rooms_of(trace):
-        # The least image with these blocks; if it has more of them, so have all others.
-        image = [max(least, number) for (least, _), number in zip(room, needs[prefix])]
-        if covers([greatest for _, greatest in room], image):
-            if prefix == len(needs) - 1 or not covers(image, needs[prefix + 1]):
-                return tuple(image)
+        # The first image with these blocks has no more of them, since blocks are made in order.
+        if covers([greatest for _, greatest in room], needs[prefix]):
+            return tuple([max(least, number) for (least, _), number in zip(room, needs[prefix])])
     return None

@@ -20,9 +20,6 @@ class Block:
 class Sync:
     """What was done before must last."""
 
-    def __init__(self):
-        pass
-
     def __eq__(self, other):
         return isinstance(other, Sync)
 

@@ -132,19 +132,5 @@ class InterfaceTest(unittest.TestCase):
             self.assertEqual(program_text(program), text)
 
 
-class ExamplesTest(unittest.TestCase):
-    def test_program_text(self):
-        self.assertEqual(program_text(read_program("main(){}")), "main() {\n}")
-
-    def test_malformed(self):
-        with self.assertRaises(errors.Malformed) as caught:
-            read_program("main( {}")
-        self.assertEqual((caught.exception.line, caught.exception.column), (1, 7))
-
-    def test_judge(self):
-        fault = judge(read_program("var x: word; main() { x = none; }"))
-        self.assertEqual((fault.word, fault.line, fault.column), ("kind", 1, 27))
-
-
 if __name__ == "__main__":
     unittest.main()

@@ -6,6 +6,8 @@ import pathlib
 import re
 import unittest
 
+from lastheap.machine import Halted
+
 FOLDER = pathlib.Path(__file__).resolve().parent.parent / "lastheap"
 BUILTINS = set(
     "len range enumerate zip min max sum abs sorted reversed int str bool list tuple dict set isinstance ord"
@@ -156,6 +158,8 @@ class RulesTest(unittest.TestCase):
             for node in ast.walk(tree):
                 if isinstance(node, ast.arg):
                     self.assertNotIn(node.arg, imported | classes, name)
+                if isinstance(node, ast.Name) and isinstance(node.ctx, ast.Store):
+                    self.assertNotIn(node.id, imported | classes, name)
                 if isinstance(node, ast.Name) and isinstance(node.ctx, ast.Load):
                     self.assertNotEqual(node.id, "_", name)
                     if hasattr(builtins, node.id):
@@ -198,6 +202,24 @@ class RulesTest(unittest.TestCase):
                     self.assertIsNone(BARRED_WORDS.search(node.id), name)
                 elif isinstance(node, ast.Attribute):
                     self.assertIsNone(BARRED_WORDS.search(node.attr), name)
+
+
+class ErrorClassesTest(unittest.TestCase):
+    def test_all_derive_directly_and_tell(self):
+        bases = {node.name: [base.id for base in node.bases] for tree in trees().values()
+                 for node in ast.walk(tree) if isinstance(node, ast.ClassDef)}
+        for name, tree in trees().items():
+            for node in ast.walk(tree):
+                if isinstance(node, ast.ClassDef) and node.bases and node.bases[0].id in ("HeapError", "ValueError"):
+                    own = [one.name for one in node.body if isinstance(one, ast.FunctionDef)]
+                    if node.name != "HeapError":
+                        self.assertEqual(bases[node.name], ["HeapError"], name)
+                        self.assertIn("told", own, (name, node.name))
+                for base in getattr(node, "bases", []):
+                    self.assertNotEqual(bases.get(base.id), ["HeapError"], (name, node.name))
+
+    def test_internal_errors_stay_inside(self):
+        self.assertEqual(Halted("full", None).told(), "refused halted")
 
 
 class InterfaceTest(unittest.TestCase):

@@ -5,6 +5,7 @@ import unittest
 from lastheap.errors import BadCount, Misfit
 from lastheap.lines import Fence, Flush, Layout, Store, packed, spread
 from lastheap.reader import read_program
+from lastheap.running import Out, Sync
 
 WIDTHS = (4, 6, 8, 10, 12)
 NO_WIDTHS = (3, 5, 7, 9, 11, 13, 14, 2, 0, -4, 16, 10 ** 20, True, False, None, "4", 4.0, (4,))
@@ -173,8 +174,9 @@ class CommandsTest(unittest.TestCase):
             for other, right in enumerate(made):
                 self.assertIs(left() == right(), index == other)
                 self.assertIs(left() != right(), index != other)
-            for strange in (None, 1, (1, 2, 3), "fence"):
+            for strange in (None, 1, (1, 2, 3), "fence", Sync(), Out(1)):
                 self.assertFalse(left() == strange)
+                self.assertFalse(strange == left())
 
 
 if __name__ == "__main__":

@@ -81,6 +81,10 @@ class ReachableTest(RunCase):
     def test_words_hold_nothing(self):
         self.assert_new(1, "x = 1; let y = 1;", "var x: word;")
         self.assert_new(1, "let y = 2; let r = new t; r.w = 2; r = none;")
+        self.assert_new(1, "let r = new t; let y = r == r; r = none;")
+        self.assert_new(1, "let r = new t; let y = r != none; let k = r.w + 1; let i = not r.w; r = none;")
+        self.assert_new(1, "let r = new t; r.w = 1; let y = r.w; let k = -y; a[1] = 1; let i = a[y]; r = none;",
+                        "var a[2]: word;")
 
     def test_fields(self):
         self.assert_new(None, "r = new t; r.f = new t;", "var r: t;")

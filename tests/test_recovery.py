@@ -244,6 +244,8 @@ class ErrorsTest(RingCase):
             self.assertEqual(self.refused(right[1:], self.LAYOUT, slots), "shape")
             self.assertEqual(self.refused(right + [[0] * 4], self.LAYOUT, slots), "shape")
             self.assertEqual(self.refused((), self.LAYOUT, slots), "shape")
+            self.assertEqual(self.refused(None, self.LAYOUT, slots), "shape")
+            self.assertEqual(self.refused([None] * (2 + slots), self.LAYOUT, slots), "shape")
             for line in range(2 + slots):
                 for words in ([], [0] * 3, [0] * 5):
                     wrong = list(right)
