@@ -13,7 +13,7 @@ from lastheap.running import Block, Run, Sync, heaps
 from lastheap.runtime import translate
 from tests.memory_helpers import made_by_hand, random_commands
 
-SECONDS = 8
+SECONDS = 20
 
 
 def run_of(start, blocks, syncs, most):

@@ -12,7 +12,7 @@ from tests.run_helpers import RunCase, blocks, ran, stop_of
 
 DEPTHS = (1, 39, 40, 41, 60, 150)
 LONGEST = 4000
-SECONDS = 8
+SECONDS = 20
 
 
 class QuickCase(RunCase):

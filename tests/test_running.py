@@ -142,6 +142,11 @@ class ArgumentsTest(unittest.TestCase):
         for word in (MOST, -MOST, 0):
             self.assertEqual(outs(ran("main(a: word) { out a; }", [word])), [word])
 
+    def test_they_stay_as_they_were(self):
+        arguments = [1, 2]
+        outs(ran("main(a: word, b: word) { a = b; b = 7; out a; }", arguments))
+        self.assertEqual(arguments, [1, 2])
+
     def test_in_their_order(self):
         text = "main(a: word, b: word, c: word, d: word, e: word, f: word) { out a - b; out c - d; out e - f; }"
         self.assertEqual(outs(ran(text, (10, 1, 20, 2, 30, 3))), [9, 18, 27])
