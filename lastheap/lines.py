@@ -96,6 +96,31 @@ def lines_of(sites, width, heads):
     return lines
 
 
+def check_layout(layout, many):
+    """Raise Misfit unless the layout has just the places of a heap with so many words."""
+    there = sum([len(line) for line in layout.lines])
+    if there != many:
+        raise Misfit(min(there, many))
+
+
+def is_there(command, layout, slots):
+    """Whether the memory has the line, and the word, that a command names."""
+    if isinstance(command, Fence):
+        return True
+    if not is_from(command.line, 0, len(layout.lines) + slots - 1):
+        return False
+    return isinstance(command, Flush) or is_from(command.word, 0, layout.width - 1)
+
+
 def homes_of(layout):
     """For each place the line and the word where it stands."""
     return {place: (line, word) for line, places in enumerate(layout.lines) for word, place in enumerate(places)}
+
+
+def stores_of(words, homes):
+    """The stores that put these words at their places, by ascending places."""
+    stores = []
+    for place in sorted(words):
+        line, word = homes[place]
+        stores.append(Store(line, word, words[place]))
+    return stores

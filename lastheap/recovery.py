@@ -2,7 +2,7 @@
 
 from lastheap.checks import is_sequence
 from lastheap.errors import Shape
-from lastheap.lines import Store, homes_of
+from lastheap.lines import homes_of, stores_of
 from lastheap.ring import check_slots, read_head, read_pairs
 
 
@@ -38,11 +38,7 @@ def recover(contents, layout, slots):
     for place in range(len(homes)):
         line, word = homes[place]
         heap.append(stored.get(place, contents[line][word]))
-    stores = []
-    for place in sorted(stored):
-        line, word = homes[place]
-        stores.append(Store(line, word, stored[place]))
-    return Recovered(heap, stores, len(applied), following_line(told))
+    return Recovered(heap, stores_of(stored, homes), len(applied), following_line(told))
 
 
 def check_shape(contents, layout, slots):

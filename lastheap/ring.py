@@ -2,6 +2,7 @@
 
 from lastheap.checks import is_from
 from lastheap.errors import BadCount
+from lastheap.lines import Store
 
 MOST_SLOTS = 9
 # A head is a log line's number times this, and the number of the run's first log line.
@@ -45,6 +46,15 @@ def line_words(head, last, pairs, width):
     for place, new in pairs + [NO_PAIR] * (pairs_in_line(width) - len(pairs)):
         words.extend([place, new])
     return words
+
+
+def log_stores(layout, slots, number, first, pairs, last):
+    """The stores that write a log line of the run with this first log line."""
+    line = len(layout.lines) + number % slots
+    head = complete_head(number, first)
+    words = line_words(head, last, pairs, layout.width)
+    stores = [Store(line, word, words[word]) for word in range(1, layout.width)]
+    return [Store(line, 0, -head)] + stores + [Store(line, 0, head)]
 
 
 def read_head(head, slot, slots):

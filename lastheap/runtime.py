@@ -1,9 +1,9 @@
 """Translating runs into commands for a memory."""
 
-from lastheap.errors import Misfit, Other, Wide
-from lastheap.lines import Fence, Flush, Store, homes_of
+from lastheap.errors import Other, Wide
+from lastheap.lines import Fence, Flush, check_layout, homes_of, stores_of
 from lastheap.recovery import recover
-from lastheap.ring import complete_head, line_words, log_pairs
+from lastheap.ring import log_pairs, log_stores
 from lastheap.running import Block, blocks_of
 
 
@@ -60,13 +60,10 @@ class Runtime:
         self.unsure_lines = {}
         self.unsure_places = {}
 
-    def store(self, line, word, number):
-        self.commands.append(Store(line, word, number))
-        self.unsure_lines[line] = True
-
-    def do_recovery(self, stores):
+    def do_stores(self, stores):
         for store in stores:
-            self.store(store.line, store.word, store.number)
+            self.commands.append(store)
+            self.unsure_lines[store.line] = True
 
     def do_block(self, changes):
         lines = log_pairs(changes, self.layout.width)
@@ -85,13 +82,7 @@ class Runtime:
 
     def write_line(self, pairs, last):
         number = self.first + len(self.written)
-        line = len(self.layout.lines) + number % self.slots
-        head = complete_head(number, self.first)
-        words = line_words(head, last, pairs, self.layout.width)
-        self.store(line, 0, -head)
-        for word in range(1, self.layout.width):
-            self.store(line, word, words[word])
-        self.store(line, 0, head)
+        self.do_stores(log_stores(self.layout, self.slots, number, self.first, pairs, last))
         self.written.append((len(self.blocks), [place for place, _ in pairs]))
 
     def may_begin(self):
@@ -123,7 +114,6 @@ class Runtime:
         self.commands.append(Fence())
         self.reasons.append(reason)
         self.unsure_lines = {}
-        self.unsure_places = {}
         self.settle()
 
     def settle(self):
@@ -137,20 +127,16 @@ class Runtime:
             if block < self.settled:
                 for place in places:
                     self.last_named[place] = index
-        for place in sorted(words):
-            line, word = self.homes[place]
-            self.store(line, word, words[place])
-            self.unsure_places[place] = True
+        self.do_stores(stores_of(words, self.homes))
+        self.unsure_places = {place: True for place in words}
 
 
 def translate(run, layout, contents, slots):
     """The trace of a run from these contents; raises Misfit, BadCount, Shape, Other and Wide."""
-    check_layout(run, layout)
-    recovered = recover(contents, layout, slots)
-    check_start(recovered.heap, run.start)
+    recovered = recover_for(run, layout, contents, slots)
     check_blocks(run, layout, slots)
     runtime = Runtime(layout, slots, recovered.following)
-    runtime.do_recovery(recovered.stores)
+    runtime.do_stores(recovered.stores)
     for index, event in enumerate(run.events):
         if isinstance(event, Block):
             runtime.do_block(event.changes)
@@ -161,11 +147,12 @@ def translate(run, layout, contents, slots):
     )
 
 
-def check_layout(run, layout):
-    """Raise Misfit unless the layout has just the places of the run's heap."""
-    many = sum([len(line) for line in layout.lines])
-    if many != len(run.start):
-        raise Misfit(min(many, len(run.start)))
+def recover_for(run, layout, contents, slots):
+    """What the contents mean, which must be the run's start; raises all errors of translate but Wide."""
+    check_layout(layout, len(run.start))
+    recovered = recover(contents, layout, slots)
+    check_start(recovered.heap, run.start)
+    return recovered
 
 
 def check_start(heap, start):
@@ -176,7 +163,11 @@ def check_start(heap, start):
 
 def check_blocks(run, layout, slots):
     """Raise Wide for the first block that needs more log lines than there are slots."""
-    for block in blocks_of(run):
-        many = len(log_pairs(block.changes, layout.width))
+    for many in lines_needed(run, layout):
         if many > slots:
             raise Wide(many)
+
+
+def lines_needed(run, layout):
+    """For each block the number of its log lines."""
+    return [len(log_pairs(block.changes, layout.width)) for block in blocks_of(run)]

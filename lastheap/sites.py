@@ -65,7 +65,7 @@ class Sites:
         The roots are pairs (table, reference), beside the variables and arrays.
         """
         found = {}
-        waiting = roots + self.references(heap, range(self.rooted))
+        waiting = roots + self.references(heap, list(range(self.rooted)))
         while waiting:
             table, reference = waiting.pop()
             if reference != 0:

@@ -1,9 +1,9 @@
 """The words of a text, with their places, and a reader that goes from one to the next."""
 
 from lastheap.errors import Malformed
+from lastheap.numerals import is_numeral
 
 LETTERS = "abcdefghijklmnopqrstuvwxyz"
-DIGITS = "0123456789"
 ROW = "abcdefghijklmnopqrstuvwxyz0123456789_"
 RESERVED = (
     "table", "var", "proc", "main", "let", "new", "none", "if", "else", "while", "max",
@@ -114,12 +114,6 @@ def form_of(text):
         return text
     if text[0] in LETTERS and len(text) <= MOST_LETTERS:
         return "name"
-    if is_number(text):
+    if is_numeral(text, MOST_DIGITS):
         return "number"
     return "bad"
-
-
-def is_number(text):
-    if text.strip(DIGITS) != "" or len(text) > MOST_DIGITS:
-        return False
-    return text == "0" or text[0] != "0"

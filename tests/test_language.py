@@ -57,6 +57,15 @@ INTERFACE = {
 }
 
 
+# What gives something to iterate over, and what iterates over its first argument at once.
+ITERABLES = ("range", "zip", "enumerate", "reversed", "items", "keys", "values")
+ITERATING = ("list", "tuple", "dict", "sorted", "sum", "min", "max", "any", "all", "enumerate", "zip", "len")
+
+
+def called_name(node):
+    return getattr(node.func, "id", None) or getattr(node.func, "attr", None)
+
+
 def sources():
     return {path.stem: path.read_text(encoding="utf-8") for path in sorted(FOLDER.glob("*.py"))}
 
@@ -186,6 +195,23 @@ class RulesTest(unittest.TestCase):
                     self.assertIn(node.func.attr, own | METHODS, (name, node.lineno))
                 elif isinstance(node, ast.Attribute):
                     self.assertIn(node.attr, own | attributes | METHODS, (name, node.lineno))
+
+    def test_ranges_and_their_kin_are_iterated_on_the_spot(self):
+        for name, tree in trees().items():
+            iterated = set()
+            for node in ast.walk(tree):
+                if isinstance(node, (ast.For, ast.comprehension)):
+                    iterated.add(node.iter)
+                elif isinstance(node, ast.Call) and isinstance(node.func, ast.Name):
+                    if node.func.id in ITERATING and node.args:
+                        iterated.add(node.args[0])
+                    if node.func.id == "zip":
+                        iterated.update(node.args)
+                elif isinstance(node, ast.Compare) and isinstance(node.ops[0], (ast.In, ast.NotIn)):
+                    iterated.add(node.comparators[0])
+            for node in ast.walk(tree):
+                if isinstance(node, ast.Call) and called_name(node) in ITERABLES:
+                    self.assertIn(node, iterated, (name, node.lineno))
 
     def test_strings_and_words(self):
         for name, tree in trees().items():
