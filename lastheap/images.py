@@ -8,14 +8,20 @@ from lastheap.watch import rooms_of, size_of, watch_of
 
 def check_image(trace, image):
     """Raise NoImage unless there is a number of stores for each line."""
+    whole = whole_image(trace)
+    if not is_sequence(image) or len(image) != len(whole):
+        raise NoImage()
+    for number, made in zip(image, whole):
+        if not is_from(number, 0, made):
+            raise NoImage()
+
+
+def whole_image(trace):
+    """The image with all stores of the trace."""
     watch = watch_of(trace)
     for command in trace.commands:
         watch.do(command)
-    if not is_sequence(image) or len(image) != len(watch.made):
-        raise NoImage()
-    for number, made in zip(image, watch.made):
-        if not is_from(number, 0, made):
-            raise NoImage()
+    return tuple(watch.made)
 
 
 def contents_of(trace, image):
@@ -81,6 +87,11 @@ def image_in(room, place):
         place, more = divmod(place, greatest - least + 1)
         image.append(least + more)
     return tuple(image[::-1])
+
+
+def all_images(trace):
+    """The list of all possible images in their order."""
+    return [image_in(room, place) for room in rooms_of(trace) for place in range(size_of(room))]
 
 
 def place_of(trace, image):

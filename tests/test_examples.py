@@ -2,7 +2,7 @@
 
 import unittest
 
-from lastheap.errors import Malformed
+from lastheap.errors import Malformed, Wide
 from lastheap.heaps import places
 from lastheap.images import contents_of, count_images
 from lastheap.judging import judge
@@ -12,7 +12,10 @@ from lastheap.printer import program_text
 from lastheap.reader import read_program
 from lastheap.recovery import recover
 from lastheap.ring import blank, log_pairs
+from lastheap.rounds import fences_of_rounds
+from lastheap.rules import broken_rule
 from lastheap.running import Block, Run, Sync, heaps, plain_run
+from lastheap.runs import fences, joined, smallest_ring
 from lastheap.runtime import translate
 
 
@@ -85,6 +88,30 @@ class MemoryTest(unittest.TestCase):
         last = recover(contents_of(trace, (0, 5, 0)), self.LAYOUT, 2)
         found = (first.heap, first.following, last.heap, last.applied, count_images(trace), count_by_prefix(trace))
         self.assertEqual(found, ((0,), 1, (5,), 1, 6, [5, 1]))
+
+    def test_broken_rule(self):
+        run = Run((0,), [Block([(0, 0, 5)])], None)
+        commands = list(self.translated(*run.events).commands)
+        broken = broken_rule(run, self.LAYOUT, blank(self.LAYOUT, 2), 2, commands + [Store(0, 0, 5)])
+        self.assertEqual((broken.rule, broken.time), ("a", 5))
+
+
+class MoreAboutRunsTest(unittest.TestCase):
+    def test_fences(self):
+        run = Run((0, 0, 0, 0, 0), [Block([(place, 0, 1)]) for place in range(5)], None)
+        layout = Layout(4, [[0, 1, 2, 3], [4]])
+        self.assertEqual((fences(run, layout, 2), fences(run, layout, 4), smallest_ring(run, layout, 0)), (4, 2, 5))
+
+    def test_joined(self):
+        run = Run((0, 0), [Block([(0, 0, 1)]), Block([(1, 0, 2)]), Block([(0, 1, 0)])], None)
+        self.assertEqual(heaps(joined(run, [1, 2])), [(0, 0), (1, 0), (0, 2)])
+
+    def test_rounds(self):
+        found = (fences_of_rounds([[0]], 4, 2, 10), fences_of_rounds([[0]], 4, 3, 10 ** 30))
+        self.assertEqual(found, (8, 499999999999999999999999999999))
+        with self.assertRaises(Wide) as caught:
+            fences_of_rounds([[0, 1]], 4, 1, 5)
+        self.assertEqual(caught.exception.count, 2)
 
 
 if __name__ == "__main__":

@@ -54,6 +54,10 @@ INTERFACE = {
     "runtime": ("Trace", "translate"),
     "images": ("contents_of", "cut_times", "count_images", "image_at", "place_of"),
     "prefixes": ("staircase", "prefix_of", "count_by_prefix", "image_with"),
+    "rules": ("Broken", "broken_rule"),
+    "strangers": ("wrong_image",),
+    "runs": ("joined", "fences", "flushes", "smallest_ring"),
+    "rounds": ("fences_of_rounds",),
 }
 
 
