@@ -1,12 +1,14 @@
-"""The examples of the document, as far as the package has come."""
+"""The examples of the document."""
 
 import unittest
 
-from lastheap.errors import Malformed, Wide
+from lastheap.desk import Desk
+from lastheap.errors import Idle, Malformed, Wide
 from lastheap.heaps import places
 from lastheap.images import contents_of, count_images
 from lastheap.judging import judge
-from lastheap.lines import Fence, Flush, Layout, Store
+from lastheap.lasttexts import commands_text
+from lastheap.lines import Fence, Flush, Layout, Store, packed
 from lastheap.prefixes import count_by_prefix, staircase
 from lastheap.printer import program_text
 from lastheap.reader import read_program
@@ -17,6 +19,7 @@ from lastheap.rules import broken_rule
 from lastheap.running import Block, Run, Sync, heaps, plain_run
 from lastheap.runs import fences, joined, smallest_ring
 from lastheap.runtime import translate
+from lastheap.session import Session
 
 
 class TextsTest(unittest.TestCase):
@@ -74,6 +77,13 @@ class MemoryTest(unittest.TestCase):
         expected = (Store(1, 0, -1), Store(1, 1, 1), Store(1, 2, 0), Store(1, 3, 5), Store(1, 0, 1))
         self.assertEqual(trace.commands, expected)
 
+    def test_texts_of_commands(self):
+        commands = self.translated(Block([(0, 0, 5)])).commands
+        text = "store 1 0 -1, store 1 1 1, store 1 2 0, store 1 3 5, store 1 0 1"
+        self.assertEqual(commands_text(commands), text)
+        commands = self.translated(Block([(0, 0, 5)]), Sync()).commands
+        self.assertEqual(commands_text(commands[5:]), "flush 1, fence, store 0 0 5")
+
     def test_sync(self):
         trace = self.translated(Block([(0, 0, 5)]), Sync())
         self.assertEqual(trace.commands[5:], (Flush(1), Fence(), Store(0, 0, 5)))
@@ -112,6 +122,26 @@ class MoreAboutRunsTest(unittest.TestCase):
         with self.assertRaises(Wide) as caught:
             fences_of_rounds([[0, 1]], 4, 1, 5)
         self.assertEqual(caught.exception.count, 2)
+
+
+class SessionsTest(unittest.TestCase):
+    PROGRAM = read_program("var x: word; main(n: word) { x = n; x = n + 1; out x; }")
+
+    def test_session(self):
+        session = Session(self.PROGRAM, packed(self.PROGRAM, 4), 2)
+        session.begin([5])
+        left = session.cut((0, 5, 3))
+        self.assertEqual((left, session.now(), session.history()), (1, (5,), [((5,), 1)]))
+
+    def test_idle(self):
+        with self.assertRaises(Idle):
+            Session(self.PROGRAM, packed(self.PROGRAM, 4), 2).trace()
+
+    def test_desk(self):
+        desk = Desk(self.PROGRAM, packed(self.PROGRAM, 4), 2)
+        self.assertEqual(desk.tell("start 5"), ["run 2", "out 6"])
+        desk.tell("finish")
+        self.assertEqual(desk.tell("heap"), ["x=6"])
 
 
 if __name__ == "__main__":

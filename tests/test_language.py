@@ -58,6 +58,10 @@ INTERFACE = {
     "strangers": ("wrong_image",),
     "runs": ("joined", "fences", "flushes", "smallest_ring"),
     "rounds": ("fences_of_rounds",),
+    "editions": ("led_over",),
+    "session": ("Session",),
+    "lasttexts": ("commands_text", "read_commands", "place_text", "block_text", "heap_text"),
+    "desk": ("Desk",),
 }
 
 
