@@ -12,7 +12,7 @@ def joined(run, sizes):
     total = sum(sizes)
     if total != len(blocks_of(run)) or min(sizes, default=1) < 1:
         raise BadCount("sizes", total)
-    events = []
+    found = []
     index = 0
     # The blocks so far of those that become one.
     group = []
@@ -20,14 +20,14 @@ def joined(run, sizes):
         if isinstance(event, Block):
             group.append(event)
             if len(group) == sizes[index]:
-                events.extend(one_block(group))
+                found.extend(one_block(group))
                 group = []
                 index += 1
         elif group:
             raise BadCount("joined", index)
         else:
-            events.append(event)
-    return Run(run.start, events, run.stop)
+            found.append(event)
+    return Run(run.start, found, run.stop)
 
 
 def one_block(group):

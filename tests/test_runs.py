@@ -225,6 +225,10 @@ class SmallestRingTest(RunsCase):
         self.assert_refused(Misfit(2), smallest_ring, Run((0,) * 3, [], None), layout, 5)
         self.assert_refused(Misfit(1), smallest_ring, Run((0,), [], None), layout, -5)
         self.assert_refused(Misfit(0), smallest_ring, Run((), [], None), layout, 5)
+        # Also if no ring is large enough.
+        long = Block([(place, 0, 1) for place in range(10)])
+        self.assert_refused(Misfit(2), smallest_ring, Run((0,) * 10, [long], None), layout, 5)
+        self.assertIsNone(smallest_ring(Run((0,) * 10, [long], None), Layout(4, [[place] for place in range(10)]), 5))
         self.assertEqual(smallest_ring(most=5, layout=layout, run=Run((1, 2), [], None)), 1)
 
 
